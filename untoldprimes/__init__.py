@@ -1,0 +1,1 @@
+"""Untoldprimes: primes counted to great bounds without listing."""

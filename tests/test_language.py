@@ -35,6 +35,10 @@ def bound_names(tree):
     return names
 
 
+def imported(path):
+    return {node.module.split(".")[1] for node in ast.parse(path.read_text()).body if isinstance(node, ast.ImportFrom)}
+
+
 class Language(unittest.TestCase):
     def test_l1_the_folder_has_only_plain_files(self):
         others = [path.name for path in PACKAGE.iterdir() if path.name != "__pycache__"]
@@ -51,6 +55,21 @@ class Language(unittest.TestCase):
                     self.assertTrue(node.module.startswith("untoldprimes."))
                     self.assertEqual(node.level, 0)
                     self.assertNotIn("*", [alias.name for alias in node.names])
+
+    def test_l16_names_come_from_the_file_that_defines_them(self):
+        for path in files():
+            for node in ast.parse(path.read_text()).body:
+                if isinstance(node, ast.ImportFrom):
+                    source = PACKAGE / (node.module.split(".")[1] + ".py")
+                    defined = {row.name for row in ast.parse(source.read_text()).body if hasattr(row, "name")}
+                    self.assertLessEqual({alias.name for alias in node.names}, defined)
+
+    def test_l16_no_two_files_import_from_each_other(self):
+        ahead = {path.stem: imported(path) for path in files()}
+        while ahead:
+            free = [name for name in ahead if not ahead[name] & set(ahead)]
+            self.assertNotEqual(free, [])
+            ahead = {name: ahead[name] for name in ahead if name not in free}
 
     def test_l7_no_numbers_with_a_point(self):
         for path in files():

@@ -3,6 +3,7 @@
 import unittest
 import weakref
 
+from tests.helper import Seven, Whole, by_hand, no_numbers
 from untoldprimes.small import is_prime, is_whole, least_prime, primes_to
 
 GREAT_PRIMES = (999983, 1000003, 2147483647, 99999999977, 999999999959, 999999999961, 999999999989)
@@ -17,55 +18,11 @@ GREAT_PRODUCTS = (
 )
 
 
-def by_hand(bound):
-    """The primes to a bound, each number tried by all lesser ones."""
-    return [n for n in range(2, bound + 1) if all(n % m for m in range(2, n))]
-
-
 def least_by_hand(number):
     divisor = 2
     while number % divisor:
         divisor += 1
     return divisor
-
-
-def deep(kind, many):
-    thing = kind([7])
-    for _ in range(many):
-        thing = kind([thing])
-    return thing
-
-
-class Seven:
-    """An object of another class that gives itself out as 7."""
-
-    def __eq__(self, other):
-        return other == 7
-
-    def __int__(self):
-        return 7
-
-    def __index__(self):
-        return 7
-
-    __hash__ = None
-
-
-class Brittle:
-    """An object that is not to be compared or tested."""
-
-    def __eq__(self, other):
-        raise RuntimeError("compared")
-
-    __lt__ = __gt__ = __le__ = __ge__ = __eq__
-    __hash__ = None
-
-    def __bool__(self):
-        raise RuntimeError("tested")
-
-
-class Whole(int):
-    """An int that is no truth."""
 
 
 class PrimesTo(unittest.TestCase):
@@ -137,7 +94,7 @@ class IsWhole(unittest.TestCase):
             self.assertIs(is_whole(thing), True)
 
     def test_truths_and_other_things(self):
-        for thing in (True, False, None, "7", b"7", [7], (7,), {7: 7}, Seven()):
+        for thing in no_numbers():
             self.assertIs(is_whole(thing), False)
 
 
@@ -172,20 +129,8 @@ class IsPrime(unittest.TestCase):
         self.assertIs(is_prime(False), False)
 
     def test_other_things(self):
-        things = ("", "7", "2\n3", "prime", b"7", None, [], [7], (), (7,), {}, {7: 7}, {7}, frozenset([7]),
-                  range(7), object(), Seven(), Brittle(), Seven, int, len, is_prime, lambda: 7, ValueError("7"))
-        for thing in things:
+        for thing in no_numbers():
             self.assertIs(is_prime(thing), False)
-
-    def test_deep_things(self):
-        for kind in (list, tuple):
-            for many in (10, 1000, 5000, 100000):
-                self.assertIs(is_prime(deep(kind, many)), False)
-
-    def test_a_list_that_has_itself(self):
-        ring = [7]
-        ring.append(ring)
-        self.assertIs(is_prime(ring), False)
 
     def test_what_is_handed_in_is_neither_changed_nor_kept(self):
         rows, table = [2, [3, 5]], {2: [3]}

@@ -1,9 +1,9 @@
 """Promises 9 to 11, and of 1 that no primes above 10 ** 6 are gone through."""
 
-import tracemalloc
 import unittest
 from unittest import mock
 
+from tests.helper import most_held
 from untoldprimes import steps
 from untoldprimes.parts import whole_parts
 from untoldprimes.small import is_prime, least_prime
@@ -152,11 +152,7 @@ class NotGoneThrough(unittest.TestCase):
     def test_no_call_holds_as_much_as_all_primes(self):
         calls = ((left_behind, (10 ** 7, 10 ** 7)), (least_prime, (999999999989,)), (is_prime, (999983 ** 2,)))
         for ask, words in calls:
-            tracemalloc.start()
-            ask(*words)
-            peak = tracemalloc.get_traced_memory()[1]
-            tracemalloc.stop()
-            self.assertLess(peak, SOME_MEGABYTES)
+            self.assertLess(most_held(ask, *words), SOME_MEGABYTES)
 
 
 if __name__ == "__main__":

@@ -5,6 +5,8 @@ import itertools
 import sys
 import tracemalloc
 
+from untoldprimes.errors import NoCommand, NoPrime, NoRest, NoText, PrimeError
+
 
 def by_hand(bound):
     """The primes to a bound, each number tried by all lesser ones."""
@@ -72,6 +74,16 @@ def no_numbers():
     things = [True, False, "", "7", "2\n3", "prime", b"7", None, [], [7], (), (7,), {}, {7: 7}, {7}, frozenset([7]),
               range(7), object(), Seven(), Brittle(), Seven, int, len, by_hand, lambda: 7, ValueError("7"), ring()]
     return things + [deep(kind, many) for kind in (list, tuple) for many in (10, 1000, 5000, 100000)]
+
+
+def assert_refused(test, refusal, ask, *words):
+    """That a call is refused, and with this refusal alone."""
+    with test.assertRaises(refusal) as caught:
+        ask(*words)
+    test.assertIsInstance(caught.exception, PrimeError)
+    test.assertIsInstance(caught.exception, ValueError)
+    for other in {NoRest, NoPrime, NoText, NoCommand} - {refusal}:
+        test.assertNotIsInstance(caught.exception, other)
 
 
 def rows_run(ask, *words):

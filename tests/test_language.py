@@ -32,6 +32,8 @@ def bound_names(tree):
             names.add(node.name)
         elif isinstance(node, ast.alias):
             names.add(node.asname or node.name)
+        elif isinstance(node, (ast.MatchAs, ast.MatchStar)):
+            names.add(node.name)
     return names
 
 

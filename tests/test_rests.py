@@ -4,8 +4,8 @@ import unittest
 import weakref
 from bisect import bisect_right
 
-from tests.helper import Brittle, Seven, Whole, by_hand, by_marks, no_numbers
-from untoldprimes.errors import NoCommand, NoPrime, NoRest, NoText, PrimeError
+from tests.helper import Brittle, Seven, Whole, assert_refused, by_hand, by_marks, no_numbers
+from untoldprimes.errors import NoRest
 from untoldprimes.rests import in_rests
 
 GREAT = 10 ** 6
@@ -80,12 +80,7 @@ class InRests(unittest.TestCase):
 
 class Refused(unittest.TestCase):
     def assert_refused(self, bound, thing):
-        with self.assertRaises(NoRest) as caught:
-            in_rests(bound, thing)
-        self.assertIsInstance(caught.exception, PrimeError)
-        self.assertIsInstance(caught.exception, ValueError)
-        for other in (NoPrime, NoText, NoCommand):
-            self.assertNotIsInstance(caught.exception, other)
+        assert_refused(self, NoRest, in_rests, bound, thing)
 
     def test_other_numbers(self):
         numbers = (0, 31, 32, 60, 100, -1, -2, -29, -30, -31, GREAT, 10 ** 24, -10 ** 24, 10 ** 5000, -10 ** 5000)

@@ -11,15 +11,15 @@ def cube(number):
     return number * number * number
 
 
-def greatest_raised_to(number, raised):
-    """The greatest whole number whose square or cube, as raised makes it, is no more than number."""
+def greatest_within(number, told):
+    """The greatest whole number from 0 on of which told, a function that never falls, tells at most number."""
     high = 1
-    while raised(high) <= number:
+    while told(high) <= number:
         high *= 2
     low = high // 2
     while high - low > 1:
         middle = (low + high) // 2
-        if raised(middle) <= number:
+        if told(middle) <= number:
             low = middle
         else:
             high = middle
@@ -28,12 +28,12 @@ def greatest_raised_to(number, raised):
 
 def root(number):
     """The whole root of a number from 0 on."""
-    return greatest_raised_to(number, square)
+    return greatest_within(number, square)
 
 
 def cube_root(number):
     """The whole cube root of a number from 0 on."""
-    return greatest_raised_to(number, cube)
+    return greatest_within(number, cube)
 
 
 def whole_parts(bound):
